@@ -1,0 +1,1 @@
+"""Markpanel: works marked by several hands, reckoned exactly."""
