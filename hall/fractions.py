@@ -53,3 +53,12 @@ def total(some):
 def mean(some):
     # Of none this is a quotient by 0, and refused as one.
     return over(total(some), (len(some), 1))
+
+
+def rising(some):
+    # Fractions are tuples, which Python would sort by their tops.
+    order = []
+    for part in some:
+        place = len([other for other in order if not under(part, other)])
+        order.insert(place, part)
+    return order

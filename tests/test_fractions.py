@@ -5,7 +5,7 @@ from fractions import Fraction
 from math import gcd
 
 from hall.errors import HallError, NoFraction
-from hall.fractions import fraction, mean, minus, over, plus, times, total, under
+from hall.fractions import fraction, mean, minus, over, plus, rising, times, total, under
 
 LONG = 10 ** 60 - 1
 
@@ -154,6 +154,26 @@ class Gathered(Case):
         some = [(3, 1), (1, 2), (-5, 7)]
         self.assertEqual(total(some), total(some))
         self.assertEqual(mean(some), mean(some))
+
+
+class Rising(Case):
+    def test_of_none(self):
+        self.assertEqual(rising([]), [])
+
+    def test_written_ones_in_every_order(self):
+        wanted = [(-1, 2), (-3, 7), (0, 1), (2, 5), (1, 2), (1, 2)]
+        for order in itertools.permutations(wanted):
+            handed = list(order)
+            told = rising(handed)
+            self.assertEqual(told, wanted)
+            self.assertIsNot(told, handed)
+            self.assertEqual(handed, list(order))
+
+    def test_drawn_ones(self):
+        chance = random.Random(16)
+        for length in range(1, 61):
+            some = [drawn_fraction(chance) for place in range(length)]
+            self.assertEqual(rising(some), sorted(some, key=exact))
 
 
 if __name__ == "__main__":

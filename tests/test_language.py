@@ -29,6 +29,10 @@ UNUSED = set("""register mro elements open input version_info with_traceback add
 WORDS = re.compile(r"\b(type|typing|typing_extensions|enum|Enum|IntEnum|StrEnum|Flag|IntFlag|Generic|Protocol|ABC|"
                    r"ABCMeta|namedtuple|NamedTuple|TypedDict|TYPE_CHECKING|abstractmethod)\b"
                    r"|dataclass|overload|contextmanager")
+WALKED = {"zip", "enumerate", "reversed", "range", "items", "keys", "values"}
+WALKERS = {"list", "tuple", "dict", "sorted", "sum", "any", "all", "enumerate", "zip"}
+KEYWORDS = {"sorted": {"key", "reverse"}, "min": {"key", "default"}, "max": {"key", "default"}, "sum": {"start"},
+            "enumerate": {"start"}, "zip": {"strict"}}
 FOLDER_NAMES = {"test", "tests", "testing", "site", "conftest", "sitecustomize", "usercustomize"}
 
 
@@ -64,6 +68,27 @@ def own_methods():
 
 def own_values():
     return {node.attr for path, node in nodes(ast.Attribute) if isinstance(node.ctx, ast.Store)}
+
+
+def called(node):
+    # The name that is called, of a function or a method; None for all else.
+    if not isinstance(node, ast.Call):
+        return None
+    return node.func.id if isinstance(node.func, ast.Name) else getattr(node.func, "attr", None)
+
+
+def parents(tree):
+    return {part: node for node in ast.walk(tree) for part in ast.iter_child_nodes(node)}
+
+
+def is_walked(node, above):
+    if isinstance(above, (ast.For, ast.comprehension)):
+        return above.iter is node
+    if called(above) in ("min", "max"):
+        return len(above.args) == 1
+    if called(above) == "join":
+        return isinstance(above.func.value, ast.Constant)
+    return called(above) in WALKERS and (above.args[0] is node or called(above) == "zip")
 
 
 class Case(unittest.TestCase):
@@ -157,6 +182,33 @@ class Form(Case):
             if isinstance(node, ast.ListComp):
                 held = len(node.generators) == 1 and len(node.generators[0].ifs) < 2
                 self.assert_row(held, path, node, "comprehension")
+
+    def test_walked_at_once(self):
+        for path, tree in TREES.items():
+            above = parents(tree)
+            for node in above:
+                if called(node) in WALKED:
+                    self.assert_row(is_walked(node, above[node]), path, node, "walked on the spot")
+
+    def test_sets(self):
+        for path, tree in TREES.items():
+            above = parents(tree)
+            for node in above:
+                if called(node) in ("set", "frozenset"):
+                    holder = above[node]
+                    while isinstance(holder, ast.BinOp):
+                        holder = above[holder]
+                    held = isinstance(holder, ast.Compare)
+                    held = held or (called(holder) in ("sorted", "len") and not holder.keywords)
+                    self.assert_row(held, path, node, "a set is not kept")
+
+    def test_keywords(self):
+        for path, node in nodes(ast.Call):
+            given = {keyword.arg for keyword in node.keywords}
+            if isinstance(node.func, ast.Name) and node.func.id in OWN_OF_PYTHON:
+                self.assert_row(given <= KEYWORDS.get(node.func.id, set()), path, node, "keyword")
+            elif isinstance(node.func, ast.Attribute) and node.func.attr in METHODS:
+                self.assert_row(not given, path, node, "keyword")
 
     def test_functions(self):
         for path, node in nodes(ast.FunctionDef):
