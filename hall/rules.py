@@ -3,15 +3,17 @@
 from hall.errors import Apart, Few
 from hall.fractions import mean, minus, rising, under
 
+NO_GAP = (0, 1)
 
-def worth(rule, marks, gap=(0, 1)):
+
+def worth(rule, marks, gap=None):
     if len(marks) < least_number(rule):
         raise Few("the rule needs more marks than these")
     if rule == "mean":
         return mean(marks)
     if rule == "middle":
         return mean(middle(rising(marks)))
-    return mean(pair(rising(marks), gap))
+    return mean(pair(rising(marks), NO_GAP if gap is None else gap))
 
 
 def least_number(rule):

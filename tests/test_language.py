@@ -218,6 +218,11 @@ class Form(Case):
             self.assert_row(not (given.vararg or given.kwarg or given.kwonlyargs or given.posonlyargs),
                             path, node, "parameters")
 
+    def test_defaults(self):
+        for path, node in nodes((ast.FunctionDef, ast.Lambda)):
+            for default in node.args.defaults:
+                self.assert_row(isinstance(default, ast.Constant), path, default, "a default that is no plain value")
+
     def test_classes(self):
         for path, node in nodes(ast.ClassDef):
             self.assert_row(node in TREES[path].body and len(node.bases) < 2, path, node, "class")
